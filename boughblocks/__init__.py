@@ -1,0 +1,1 @@
+"""Boughblocks: trees laid in blocks, so that few blocks are read on any way down."""
