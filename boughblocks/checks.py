@@ -1,11 +1,12 @@
-"""What is a number, a tree, a knot, a laying, weights; and the refusal of what is none.
+"""What is a number, a tree, a knot, a room, a laying, weights; and the refusal of what is none.
 
 No refusal shows what was refused: a very great number has no text in Python.
 """
 
-from boughblocks.errors import BadKnot, BadLaying, BadTree, BadTrees, BadWeights
+from boughblocks.errors import BadKnot, BadLaying, BadNumber, BadRoom, BadTree, BadTrees, BadWeights
 
 MOST_KNOTS = 60
+MOST_ROOM = 60
 
 
 def is_number(value):
@@ -63,6 +64,18 @@ def check_knot(tree, knot):
     """Refuse what is no knot of the tree."""
     if not is_number(knot) or not 0 <= knot < len(tree):
         raise BadKnot("no knot of the tree: a number from 0 on, below the many of its knots")
+
+
+def check_room(room):
+    """Refuse what is no room."""
+    if not is_number(room) or not 1 <= room <= MOST_ROOM:
+        raise BadRoom("no room: a number from 1 to 60")
+
+
+def check_many(value):
+    """Refuse what is no number from 1 on."""
+    if not is_number(value) or value < 1:
+        raise BadNumber("no number from 1 on")
 
 
 def check_trees(trees):

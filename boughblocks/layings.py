@@ -20,6 +20,17 @@ def full_blocks(room, laying):
     return [block for block in range(max(laying) + 1) if laying.count(block) > room]
 
 
+def laid_together(tree, joined):
+    """The laying in which a knot lies in its parent's block just if it is one of the joined ones."""
+    told = [0]
+    for knot in range(1, len(tree)):
+        if knot in joined:
+            told.append(told[tree[knot]])
+        else:
+            told.append(max(told) + 1)
+    return told
+
+
 def named(tree, blocks):
     """The laying of these blocks, which may be any numbers, one for each knot."""
     check_tree(tree)
@@ -43,14 +54,8 @@ def hanging(tree, laying):
     """The laying parted: its blocks are the parts of the laying's blocks that hang together."""
     check_tree(tree)
     check_laying(tree, laying)
-    told = [0]
-    for knot in range(1, len(tree)):
-        parent = tree[knot]
-        if laying[knot] == laying[parent]:
-            told.append(told[parent])
-        else:
-            told.append(max(told) + 1)
-    return told
+    joined = [knot for knot in range(1, len(tree)) if laying[knot] == laying[tree[knot]]]
+    return laid_together(tree, joined)
 
 
 def price(tree, laying, weights):

@@ -138,6 +138,19 @@ class TestGoodAndFull(unittest.TestCase):
         self.assertIs(full.shows([-1, 0, 1], 3, [0, 0, 0]), False)
 
 
+    def test_a_laying_of_another_tree_is_none_of_this_one(self):
+        for laying in ([0], [0, 0], [0, 0, 0, 0], [0, 1, 1, 1], [0] * 60):
+            for number in (0, 1, 2):
+                for room in (1, 60):
+                    self.assertIs(Good(number).shows([-1, 0, 1], room, laying), False)
+                    self.assertIs(Full(number).shows([-1, 0, 1], room, laying), False)
+
+    def test_a_field_that_is_no_number_is_no_height_and_no_block(self):
+        for field in (True, False, None, "1", "0", [1], (0,)):
+            self.assertIs(Good(field).shows([-1, 0], 2, [0, 0]), False)
+            self.assertIs(Full(field).shows([-1, 0, 1, 1], 1, [0, 0, 1, 1]), False)
+
+
 class TestHigh(unittest.TestCase):
 
     def look_at(self, tree, room, pairs):
@@ -242,6 +255,11 @@ class TestHigh(unittest.TestCase):
                               [(1, 1)] * (knots - 1), [(1, 1)] * (knots + 1), [(1, 1)] * 100):
                     if len(pairs) != knots:
                         self.assertIs(High(pairs).shows(tree, room), False)
+
+    def test_what_is_no_pair_of_numbers_is_in_no_paper(self):
+        for pair in ((1,), (1, 1, 1), (), [1, 1], (True, 1), (1, True), ("1", 1), (1, None), 1, None, "11"):
+            self.assertIs(High([pair]).shows([-1], 60), False)
+            self.assertIs(High([(1, 1), pair]).shows([-1, 0], 60), False)
 
     def test_the_field_as_it_stands(self):
         tree = [-1, 0, 0]
